@@ -1,0 +1,1 @@
+"""Seldomseen: what the marks of seldom looked at pages surely tell."""

@@ -1,0 +1,115 @@
+"""The rules of the language that can be seen file by file, so that a slip is found ahead of a submission."""
+
+import ast
+import pathlib
+import unittest
+
+FOLDER = pathlib.Path(__file__).resolve().parent.parent / 'seldomseen'
+FILES = sorted(FOLDER.glob('*.py'))
+
+LIBRARY = {
+    'heapq': {'heappush', 'heappop', 'heapify', 'heapreplace', 'heappushpop'},
+    'math': {'gcd', 'lcm', 'isqrt', 'comb', 'perm', 'factorial'},
+    'itertools': {'product', 'combinations', 'permutations'}}
+BUILTINS = set(
+    'len range enumerate zip min max sum abs sorted reversed int str bool list tuple dict set frozenset '
+    'isinstance ord repr any all divmod iter next map property staticmethod classmethod super Exception ValueError '
+    'TypeError KeyError IndexError LookupError ZeroDivisionError ArithmeticError OverflowError RuntimeError '
+    'NotImplementedError AttributeError StopIteration NotImplemented'.split())
+DOUBLE = set(
+    '__init__ __eq__ __repr__ __str__ __len__ __enter__ __exit__ __call__ __iter__ __class__ __name__'.split())
+BARRED = set(
+    'register mro elements open input law version_info with_traceback add_note attrgetter breakpoint builtins compile '
+    'copyright credits delattr dir eval exec exit gc getattr globals hasattr help id importlib license locals '
+    'methodcaller os quit setattr type vars sys typing enum'.split())
+STATEMENTS = (
+    ast.Global, ast.AsyncFunctionDef, ast.AsyncFor, ast.AsyncWith, ast.Await, ast.TryStar)
+
+
+def nodes_of(kinds=ast.AST):
+    for path in FILES:
+        for node in ast.walk(ast.parse(path.read_text())):
+            if isinstance(node, kinds):
+                yield f'{path.name}:{getattr(node, "lineno", 0)}', node
+
+
+class LanguageTest(unittest.TestCase):
+
+    def test_the_folder_holds_plain_files_alone(self):
+        self.assertIn('__init__.py', [path.name for path in FILES])
+        found = [path for path in FOLDER.rglob('*') if '__pycache__' not in path.parts]
+        for path in found:
+            self.assertEqual(path.suffix, '.py', path)
+            self.assertRegex(path.name, r'\A[a-z_0-9]+\.py\Z')
+
+    def test_sizes_and_characters(self):
+        for path in FILES:
+            text = path.read_text()
+            lines = text.split('\n')
+            self.assertLessEqual(len(lines), 400, path)
+            for line in lines:
+                self.assertLessEqual(len(line), 120, line)
+                self.assertTrue(all(' ' <= letter <= '~' for letter in line), line)
+        for place, node in nodes_of(ast.FunctionDef):
+            self.assertLessEqual(node.end_lineno - node.lineno + 1, 40, place)
+
+    def test_imports(self):
+        for place, node in nodes_of((ast.Import, ast.ImportFrom)):
+            self.assertIsInstance(node, ast.ImportFrom, place)
+            names = {name.name for name in node.names}
+            if node.module in LIBRARY:
+                self.assertLessEqual(names, LIBRARY[node.module], place)
+                continue
+            self.assertEqual((node.level, node.module.split('.')[0]), (0, 'seldomseen'), place)
+            source = ast.parse((FOLDER / (node.module.split('.')[1] + '.py')).read_text())
+            defined = {part.name for part in source.body if isinstance(part, (ast.FunctionDef, ast.ClassDef))}
+            defined |= {part.targets[0].id for part in source.body if isinstance(part, ast.Assign)}
+            self.assertLessEqual(names, defined, place)
+
+    def test_no_two_files_import_each_other(self):
+        ahead = {path.stem: set() for path in FILES}
+        for place, node in nodes_of(ast.ImportFrom):
+            if node.module not in LIBRARY:
+                ahead[place.split('.')[0]].add(node.module.split('.')[1])
+        while ahead:
+            free = [name for name, others in ahead.items() if not others & set(ahead)]
+            self.assertTrue(free, ahead)
+            for name in free:
+                del ahead[name]
+
+    def test_builtins_and_names(self):
+        known = set(vars(__import__('builtins')))
+        for place, node in nodes_of():
+            names = []
+            if isinstance(node, ast.Name):
+                names = [node.id]
+                if isinstance(node.ctx, ast.Load) and node.id in known:
+                    self.assertIn(node.id, BUILTINS, place)
+                else:
+                    self.assertNotIn(node.id, known, place)
+            elif isinstance(node, ast.arg):
+                names = [node.arg]
+                self.assertNotIn(node.arg, known, place)
+            elif isinstance(node, (ast.FunctionDef, ast.ClassDef)):
+                names = [node.name]
+            for name in names:
+                self.assertNotIn(name, BARRED, place)
+                self.assertTrue(name.isascii() and (not name.startswith('__') or name in DOUBLE), place)
+
+    def test_values_and_statements(self):
+        for place, node in nodes_of():
+            self.assertNotIsInstance(node, STATEMENTS, place)
+            if isinstance(node, ast.Constant):
+                self.assertNotIsInstance(node.value, (float, complex), place)
+                if isinstance(node.value, str):
+                    self.assertNotIn('%', node.value, place)
+            if isinstance(node, ast.BinOp):
+                self.assertNotIsInstance(node.op, (ast.Div, ast.MatMult), place)
+            if isinstance(node, ast.GeneratorExp):
+                self.fail(f'{place}: a list is taken, since classes compare')
+            if isinstance(node, ast.Attribute) and node.attr.startswith('__'):
+                self.assertIn(node.attr, DOUBLE, place)
+
+
+if __name__ == '__main__':
+    unittest.main()
