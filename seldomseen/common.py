@@ -34,6 +34,16 @@ def are_ascending_names(value):
     return isinstance(value, tuple) and all([is_name(name) for name in value]) and is_ascending(value)
 
 
+def are_pages_of(machine, value):
+    """Whether a value is an ascending tuple of pages of the machine, perhaps of none."""
+    return are_ascending_names(value) and all([page in machine.pages for page in value])
+
+
+def place_of(machine, number):
+    """The place on the machine's clock of the turn of this number."""
+    return number % len(machine.clock)
+
+
 def turns_of(machine, run):
     """The names of a run in each turn that it has, in order; raises BadRun of what is no run."""
     if not machine.is_run(run):
@@ -41,8 +51,14 @@ def turns_of(machine, run):
     turns = []
     start = 0
     while start < len(run):
-        ticks = machine.clock[len(turns) % len(machine.clock)]
+        ticks = machine.clock[place_of(machine, len(turns))]
         # The slice ends with the run, so the last turn may be cut short.
         turns.append(run[start:start + ticks])
         start += ticks
     return turns
+
+
+def is_whole(machine, run):
+    """Whether the last turn of a run is not cut short; raises BadRun of what is no run."""
+    turns = turns_of(machine, run)
+    return len(turns[-1]) == machine.clock[place_of(machine, len(turns) - 1)]

@@ -2,7 +2,9 @@ import importlib
 import inspect
 import unittest
 
-# File, class or None, what it has: parameters, or None of a property.
+JOURNAL = ['machine', 'watch', 'journal']
+
+# File, class or None, what it has: parameters (those behind a * with one), or None of a property.
 LISTED = (
     ('machines', 'Machine', {
         '__init__': ['self', 'steps', 'clock', 'pages', 'move', 'first'], 'steps': None, 'clock': None, 'pages': None,
@@ -11,7 +13,26 @@ LISTED = (
     ('prices', None, {
         'price': ['machine', 'run', 'sets'], 'best': ['machine', 'run'],
         'shows_best': ['machine', 'run', 'value', 'heights']}),
+    ('watches', None, {
+        'is_watch': ['machine', 'value'], 'seen': ['machine', 'watch', 'run'], 'unseen': ['machine', 'watch', 'run'],
+        'coarser': ['machine', 'one', 'other']}),
+    ('fitting', None, {
+        'fits': JOURNAL + ['run'], 'fitting': JOURNAL, 'how_many': JOURNAL, 'where': JOURNAL + ['tick'],
+        'stuck': JOURNAL, 'shows_stuck': JOURNAL + ['value']}),
+    ('warmth', None, {
+        'touches': JOURNAL + ['page', '*since', '*until'], 'fewest': JOURNAL + ['page', '*since', '*until'],
+        'most': JOURNAL + ['page', '*since', '*until'],
+        'shows_fewest': JOURNAL + ['page', 'value', 'heights', '*since', '*until'],
+        'shows_most': JOURNAL + ['page', 'value', 'heights', '*since', '*until'],
+        'warmer': JOURNAL + ['one', 'other', '*since', '*until'],
+        'shows_warmer': JOURNAL + ['one', 'other', 'value', '*since', '*until'], 'age': JOURNAL + ['page'],
+        'warmest': JOURNAL + ['*since', '*until'], 'slow': JOURNAL + ['sets']}),
+    ('rules', 'Rule', {
+        '__init__': ['self', 'machine', 'watch', 'states'], 'machine': None, 'watch': None, 'states': None,
+        'row': ['self', 'run'], 'numbers': ['self', 'run'], 'price': ['self', 'run'], '__eq__': ['self', 'other']}),
+    ('rules', None, {'alike': ['one', 'other'], 'shows_alike': ['one', 'other', 'value']}),
 )
+DEFAULTS = {'since': 0, 'until': None}
 
 
 class InterfaceTest(unittest.TestCase):
@@ -30,9 +51,12 @@ class InterfaceTest(unittest.TestCase):
                         self.assertIsInstance(thing, property)
                         continue
                     self.assertEqual(thing.__module__, module.__name__)
-                    told = inspect.signature(thing).parameters
-                    self.assertEqual(list(told), parameters)
-                    self.assertEqual({part.kind for part in told.values()}, {inspect.Parameter.POSITIONAL_OR_KEYWORD})
+                    told = inspect.signature(thing).parameters.values()
+                    by_name = inspect.Parameter.KEYWORD_ONLY
+                    self.assertEqual([('*' if part.kind == by_name else '') + part.name for part in told], parameters)
+                    for part in told:
+                        self.assertIn(part.kind, (by_name, inspect.Parameter.POSITIONAL_OR_KEYWORD))
+                        self.assertEqual(part.default, DEFAULTS.get(part.name, inspect.Parameter.empty))
 
 
 if __name__ == '__main__':

@@ -22,6 +22,10 @@ BARRED = set(
     'register mro elements open input law version_info with_traceback add_note attrgetter breakpoint builtins compile '
     'copyright credits delattr dir eval exec exit gc getattr globals hasattr help id importlib license locals '
     'methodcaller os quit setattr type vars sys typing enum'.split())
+METHODS = set(
+    'append clear copy count endswith extend find get index insert isalnum isalpha isdigit islower isspace isupper items '
+    'join keys ljust lower lstrip partition pop remove replace reverse rfind rjust rpartition rsplit rstrip setdefault '
+    'split splitlines startswith strip update upper values zfill bit_length'.split())
 STATEMENTS = (
     ast.Global, ast.AsyncFunctionDef, ast.AsyncFor, ast.AsyncWith, ast.Await, ast.TryStar)
 
@@ -109,6 +113,35 @@ class LanguageTest(unittest.TestCase):
                 self.fail(f'{place}: a list is taken, since classes compare')
             if isinstance(node, ast.Attribute) and node.attr.startswith('__'):
                 self.assertIn(node.attr, DOUBLE, place)
+
+    def test_is_with_none_and_bools_alone(self):
+        for place, node in nodes_of(ast.Compare):
+            for sign, side in zip(node.ops, node.comparators):
+                if isinstance(sign, (ast.Is, ast.IsNot)):
+                    self.assertIsInstance(side, ast.Constant, place)
+                    self.assertIn(side.value, (None, True, False), place)
+
+    def test_sets_are_sorted_or_counted_on_the_spot(self):
+        for path in FILES:
+            tree = ast.parse(path.read_text())
+            free = {id(part) for node in ast.walk(tree) if isinstance(node, ast.Call)
+                    and isinstance(node.func, ast.Name) and node.func.id in ('sorted', 'len') for part in node.args}
+            for node in ast.walk(tree):
+                made = isinstance(node, ast.Call) and isinstance(node.func, ast.Name) and node.func.id == 'set'
+                if made or isinstance(node, (ast.Set, ast.SetComp)):
+                    self.assertIn(id(node), free, f'{path.name}:{node.lineno}')
+
+    def test_methods(self):
+        own = {node.name for _, node in nodes_of(ast.FunctionDef)}
+        for place, node in nodes_of(ast.Call):
+            if isinstance(node.func, ast.Attribute):
+                self.assertIn(node.func.attr, METHODS | own, place)
+
+    def test_properties_are_not_assigned_elsewhere(self):
+        told = {node.name for _, node in nodes_of(ast.FunctionDef) if node.decorator_list}
+        for place, node in nodes_of(ast.Attribute):
+            if isinstance(node.ctx, ast.Store):
+                self.assertNotIn(node.attr, told, place)
 
 
 if __name__ == '__main__':
