@@ -22,19 +22,24 @@ def is_row(machine, many, value):
     return all([chosen in machine.sets for chosen in value])
 
 
+def total_price(machine, turns, sets):
+    """What turns, given by their names, cost with these sets; if there is one more set, with the moves to it, too."""
+    slow = sum([slow_touches(machine, turn, chosen) for turn, chosen in zip(turns, sets)])
+    return slow + sum([moving(machine, one, other) for one, other in zip(sets, sets[1:])])
+
+
 def price(machine, run, sets):
     """What a run costs with this row of sets."""
     turns = turns_of(machine, run)
     if not is_row(machine, len(turns), sets):
         raise BadSets(sets)
-    slow = sum([slow_touches(machine, turn, chosen) for turn, chosen in zip(turns, sets)])
-    return slow + sum([moving(machine, one, other) for one, other in zip(sets, sets[1:])])
+    return total_price(machine, turns, sets)
 
 
 def cheapest_with(machine, rows, turn, chosen):
     """The cheapest (price, row) that adds this set for the next turn to one of these (price, row)."""
-    paid, row = min([(paid + moving(machine, row[-1], chosen), row) for paid, row in rows])
-    return (paid + slow_touches(machine, turn, chosen), (*row, chosen))
+    cost, row = min([(cost + moving(machine, row[-1], chosen), row) for cost, row in rows])
+    return (cost + slow_touches(machine, turn, chosen), (*row, chosen))
 
 
 def best(machine, run):
@@ -45,7 +50,7 @@ def best(machine, run):
     heights = [(0, machine.first, rows[0][0])]
     for number, turn in enumerate(turns[1:], start=1):
         rows = [cheapest_with(machine, rows, turn, chosen) for chosen in machine.sets]
-        heights.extend([(number, row[-1], paid) for paid, row in rows])
+        heights.extend([(number, row[-1], cost) for cost, row in rows])
     value, sets = min(rows)
     return (value, sets, tuple(heights))
 

@@ -24,9 +24,9 @@ def is_rule_state(machine, watch, many, value):
     return all([is_integer_in(number, 0, many - 1) for number in answers])
 
 
-def are_states(machine, watch, value):
-    """Whether a value is the states of a rule."""
-    if not isinstance(value, tuple) or not 1 <= len(value) <= MOST_STATES:
+def are_linked(machine, watch, value):
+    """Whether a value is any number of states of which the first one begins and each answer leads to the next place."""
+    if not isinstance(value, tuple) or len(value) == 0:
         return False
     if not all([is_rule_state(machine, watch, len(value), state) for state in value]):
         return False
@@ -36,13 +36,23 @@ def are_states(machine, watch, value):
                 for place, chosen, answers in value for number in answers])
 
 
-def answer(states, number, marks):
-    """The number of the state to which the state of this number answers these marks."""
-    at = 0
+def are_states(machine, watch, value):
+    """Whether a value is the states of a rule."""
+    return are_linked(machine, watch, value) and len(value) <= MOST_STATES
+
+
+def rank_of(marks):
+    """At which place marks stand among all marks of the same pages, ascending."""
+    rank = 0
     # Tuples of marks ascend as numbers in the binary system do, False being 0.
     for mark in marks:
-        at = at * 2 + (1 if mark else 0)
-    return states[number][2][at]
+        rank = rank * 2 + (1 if mark else 0)
+    return rank
+
+
+def answer(states, number, marks):
+    """The number of the state to which the state of this number answers these marks."""
+    return states[number][2][rank_of(marks)]
 
 
 def numbers_for(rule, journal):
@@ -109,8 +119,8 @@ def have_one_set(one, other, pair):
     return one.states[pair[0]][1] == other.states[pair[1]][1]
 
 
-def turns_behind(one, other, pair):
-    """(names, pair) of the whole turns behind a pair whose last step something follows, ascending by the names."""
+def pairs_behind(one, other, pair):
+    """(names, pair) of the whole turns behind a pair, ascending by the names."""
     machine = one.machine
     number, beside, step, pages, others = pair
     place = one.states[number][0]
@@ -121,10 +131,15 @@ def turns_behind(one, other, pair):
                          marked_ways(machine, ticks, other.watch[place], (step, others))):
         names, marks, (last, left) = way
         _, signs, (_, rest) = same
-        if len(machine.following(last)) > 0:
-            behind = (answer(one.states, number, marks), answer(other.states, beside, signs), last, left, rest)
-            found.append((names, behind))
+        behind = (answer(one.states, number, marks), answer(other.states, beside, signs), last, left, rest)
+        found.append((names, behind))
     return found
+
+
+def turns_behind(one, other, pair):
+    """(names, pair) of the whole turns behind a pair whose last step something follows, ascending by the names."""
+    machine = one.machine
+    return [(names, behind) for names, behind in pairs_behind(one, other, pair) if len(machine.following(names[-1])) > 0]
 
 
 def alike(one, other):

@@ -28,6 +28,14 @@ def marks_of(watched, pages):
     return tuple([page in pages for page in watched])
 
 
+def all_marks(watched):
+    """All tuples of marks of these pages, ascending."""
+    found = [()]
+    for _ in watched:
+        found = [(*marks, mark) for marks in found for mark in (False, True)]
+    return found
+
+
 def without_seen(watched, pages):
     """Those of these pages whose marks stay, since they are not seen."""
     return tuple([page for page in pages if page not in watched])

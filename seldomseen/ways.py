@@ -24,12 +24,22 @@ def steps_behind(machine, step):
     return machine.following(step)
 
 
+def names_within(machine, ticks, step):
+    """For each tick of a turn behind this step the names of steps on all ways up to it and with it, ascending."""
+    found = [[(name,) for name in steps_behind(machine, step)]]
+    for _ in range(ticks - 1):
+        found.append([(*names, name) for names in found[-1] for name in machine.following(names[-1])])
+    return found
+
+
 def names_through(machine, ticks, step):
     """The names of steps on all ways through a turn of so many ticks behind this step, ascending."""
-    found = [(name,) for name in steps_behind(machine, step)]
-    for _ in range(ticks - 1):
-        found = [(*names, name) for names in found for name in machine.following(names[-1])]
-    return found
+    return names_within(machine, ticks, step)[-1]
+
+
+def names_into(machine, ticks, step):
+    """The names of steps on all ways of one or more ticks into a turn: a run may end at each tick."""
+    return [names for layer in names_within(machine, ticks, step) for names in layer]
 
 
 def marked_ways(machine, ticks, watched, state):

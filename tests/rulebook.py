@@ -4,6 +4,7 @@ import random
 
 from oracle import marks_that_may_be
 from samples import EXAMPLE
+from seldomseen.machines import Machine
 from seldomseen.rules import Rule
 
 # Follows what p's mark and q's tell: to q if q alone was touched, back to p otherwise.
@@ -42,3 +43,51 @@ def doubled(rule, chance, more=2):
 def some_rules(machine, watch, many, seed):
     chance = random.Random(seed)
     return [made_up(machine, watch, chance, chance.randrange(len(machine.clock), 7)) for _ in range(many)]
+
+
+def small_machine(chance, most_steps=4, most_pages=4, most_turns=3, most_ticks=3, most_move=9):
+    """A machine of few steps, which may come to an end."""
+    names = chance.sample('abcdefgh', chance.randrange(1, most_steps + 1))
+    pages = ('p', 'q', 'r', 's')[:chance.randrange(2, most_pages + 1)]
+    steps = []
+    for number, name in enumerate(names):
+        most = min(3, len(names))
+        many = chance.randrange(1 if number == 0 or chance.random() < 0.7 else 0, most + 1)
+        steps.append((name, chance.choice(pages + (None,)), tuple(sorted(chance.sample(names, many)))))
+    clock = tuple(chance.randrange(1, most_ticks + 1) for _ in range(chance.randrange(1, most_turns + 1)))
+    first = tuple(sorted(chance.sample(pages, chance.randrange(1, len(pages)))))
+    return Machine(tuple(steps), clock, pages, chance.choice([0, 1, 1, 2, 3, most_move][:most_move + 2]), first)
+
+
+def small_watch(chance, machine):
+    return tuple(tuple(sorted(chance.sample(machine.pages, chance.randrange(len(machine.pages) + 1))))
+                 for _ in machine.clock)
+
+
+def small_rules(many, seed, **sizes):
+    """Rules of small machines, of different watches."""
+    chance = random.Random(seed)
+    found = []
+    for _ in range(many):
+        machine = small_machine(chance, **sizes)
+        states = chance.randrange(len(machine.clock), len(machine.clock) + 3)
+        found.append(made_up(machine, small_watch(chance, machine), chance, states))
+    return found
+
+
+def chasing(machine):
+    """A rule that sees all marks and brings in what was touched, if there is room for it."""
+    many, size, watch = len(machine.clock), len(machine.first), (machine.pages,) * len(machine.clock)
+    order = [(0, machine.first)]
+    order += [state for place in range(many) for state in [(place, chosen) for chosen in machine.sets]
+              if state != order[0]]
+    told = []
+    for place, chosen in order:
+        answers = []
+        for marks in marks_that_may_be(watch, place):
+            touched = [page for page, mark in zip(machine.pages, marks) if mark]
+            kept = [page for page in chosen if page not in touched]
+            after = chosen if len(touched) > size else tuple(sorted((touched + kept)[:size]))
+            answers.append(order.index(((place + 1) % many, after)))
+        told.append((place, chosen, tuple(answers)))
+    return Rule(machine, watch, tuple(told))

@@ -31,6 +31,14 @@ LISTED = (
         '__init__': ['self', 'machine', 'watch', 'states'], 'machine': None, 'watch': None, 'states': None,
         'row': ['self', 'run'], 'numbers': ['self', 'run'], 'price': ['self', 'run'], '__eq__': ['self', 'other']}),
     ('rules', None, {'alike': ['one', 'other'], 'shows_alike': ['one', 'other', 'value']}),
+    ('bounds', None, {
+        'bound': ['rule', 'a', 'b'], 'shows_bound': ['rule', 'a', 'b', 'value'], 'rate': ['rule'],
+        'shows_rate': ['rule', 'value']}),
+    ('versus', None, {
+        'versus': ['one', 'other', 'a', 'b'], 'shows_versus': ['one', 'other', 'a', 'b', 'value']}),
+    ('holding', None, {
+        'hold': ['machine', 'watch', 'a', 'b', 'most'], 'shows_posts': ['machine', 'watch', 'a', 'b', 'd', 'value'],
+        'shows_book': ['machine', 'watch', 'a', 'b', 'd', 'value'], 'rule_of': ['machine', 'watch', 'posts']}),
 )
 DEFAULTS = {'since': 0, 'until': None}
 
