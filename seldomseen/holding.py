@@ -1,4 +1,4 @@
-"""What a watch can hold: posts, by which a rule that sees its marks stays within a bound, or a book that breaks each."""
+"""What a watch can hold: posts, by which a rule that sees its marks stays within a bound, or a book that breaks all."""
 
 from seldomseen.common import is_integer_in, place_of
 from seldomseen.errors import BadBound
