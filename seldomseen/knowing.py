@@ -1,7 +1,7 @@
 """What someone who sees marks alone can know, and what comes of it behind the next turn.
 
-A knowledge is an ascending tuple of ((step, pages, set), excess). A case is (place, set, knowledge): the set that someone
-has in a turn of this place, and what that one knows.
+A knowledge is an ascending tuple of ((step, pages, set), excess). A case is (place, set, knowledge): the set that one has
+in a turn of this place, and what that one knows.
 """
 
 from seldomseen.climbs import place_in_table
@@ -72,7 +72,7 @@ def ends_by_marks(machine, watch, weights, case):
 
 
 def excesses_behind(machine, weights, own, chosen, ends):
-    """The greatest excess of each (step, pages, set) at the beginning of the next turn, if this set is chosen for it."""
+    """The greatest excess of each (step, pages, set) at the beginning of the next turn, if this set is chosen there."""
     least = least_excess(machine, weights)
     found = {}
     for (last, left, other), excess in ends.items():

@@ -139,7 +139,8 @@ def pairs_behind(one, other, pair):
 def turns_behind(one, other, pair):
     """(names, pair) of the whole turns behind a pair whose last step something follows, ascending by the names."""
     machine = one.machine
-    return [(names, behind) for names, behind in pairs_behind(one, other, pair) if len(machine.following(names[-1])) > 0]
+    found = pairs_behind(one, other, pair)
+    return [(names, behind) for names, behind in found if len(machine.following(names[-1])) > 0]
 
 
 def alike(one, other):
