@@ -1,7 +1,7 @@
 """What someone who sees marks alone can know, and what comes of it behind the next turn.
 
-A knowledge is an ascending tuple of ((step, pages, set), excess). A case is (place, set, knowledge): the set that one has
-in a turn of this place, and what that one knows.
+A knowledge is an ascending tuple of ((step, pages, set), excess). A case is (place, set, knowledge): the set that is
+had in a turn of this place, and what is known.
 """
 
 from seldomseen.climbs import place_in_table
