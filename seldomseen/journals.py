@@ -25,11 +25,16 @@ def is_journal(machine, watch, value):
     return all([are_marks(watch[place_of(machine, number)], marks) for number, marks in enumerate(value)])
 
 
-def legs_of(machine, watch, journal):
-    """The legs of a journal; raises BadWatch, BadJournal."""
+def check_journal(machine, watch, journal):
+    """Raise BadWatch of what is no watch, then BadJournal of what is no journal of it."""
     check_watch(machine, watch)
     if not is_journal(machine, watch, journal):
         raise BadJournal(journal)
+
+
+def legs_of(machine, watch, journal):
+    """The legs of a journal; raises BadWatch, BadJournal."""
+    check_journal(machine, watch, journal)
     legs = []
     start = 0
     for number, marks in enumerate(journal):

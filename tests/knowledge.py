@@ -211,3 +211,31 @@ def small_games(many, seed):
 # Goes to and fro at will; who sees nothing holds no bound.
 EITHER = Machine((('a', 'p', ('a', 'b')), ('b', 'q', ('a', 'b'))), (1,), ('p', 'q'), 1, ('p',))
 assert EITHER != EXAMPLE
+
+# (machine, a, b, least bound that is held by who sees all, by who sees nothing; None for more than 3)
+WATCHFUL = tuple((Machine(*parts), a, b, least, blind) for parts, a, b, least, blind in (
+    (((('g', 'p', ('e', 'g', 'h')), ('h', 'r', ('g', 'h')), ('e', 'r', ('e', 'h'))), (1, 1), ('p', 'q', 'r'), 1, ('p', 'q')),
+     2, 1, 0, 1),
+    (((('e', 'q', ('c', 'e', 'g')), ('b', 'r', ('e',)), ('c', 'q', ('b', 'e', 'g')), ('g', 'r', ('g',))), (1, 1),
+      ('p', 'q', 'r'), 1, ('r',)), 2, 1, 2, None),
+    (((('f', 'q', ('b', 'f')), ('b', 'r', ('b',))), (1,), ('p', 'q', 'r'), 2, ('q',)), 3, 1, 0, None),
+    (((('d', None, ('e', 'f')), ('f', None, ('b', 'd', 'e')), ('e', 'p', ('d', 'e', 'f')), ('b', None, ('d',))), (1, 1),
+      ('p', 'q'), 1, ('q',)), 3, 2, 1, 2),
+    (((('b', None, ('d', 'h')), ('d', None, ('b',)), ('h', 'p', ('b', 'd'))), (2, 1), ('p', 'q', 'r'), 1, ('q', 'r')),
+     3, 2, 1, 2),
+    (((('a', None, ('a', 'c')), ('c', 'p', ('c',))), (1,), ('p', 'q'), 1, ('q',)), 3, 1, 0, 1),
+    (((('f', 'q', ('c', 'f', 'h')), ('c', None, ('h',)), ('h', 'p', ('c', 'h')), ('b', 'q', ('b', 'f'))), (1,), ('p', 'q'), 0,
+      ('p',)), 3, 3, 3, None),
+    (((('c', 'p', ('d', 'g', 'h')), ('h', 'q', ('c', 'd', 'g')), ('g', 'p', ('c', 'd')), ('d', 'q', ('g', 'h'))), (1, 1),
+      ('p', 'q'), 1, ('p',)), 3, 1, 2, None),
+    (((('a', 'r', ('a', 'f', 'h')), ('h', 'r', ('c',)), ('f', 'p', ('h',)), ('c', 'p', ('c',))), (2,), ('p', 'q', 'r'), 0,
+      ('q',)), 1, 1, 2, None),
+    (((('e', 'q', ('b', 'd', 'e')), ('d', 'p', ('b', 'd', 'e')), ('b', 'q', ('d',))), (1,), ('p', 'q'), 1, ('p',)),
+     3, 1, 2, None)))
+
+# (machine, a, b, d): who sees nothing holds d, and who sees all has too many triples; and where the first breaks it.
+MANY_BEHIND = (Machine(
+    (('g', 'q', ('a', 'c', 'h')), ('a', 'r', ('a', 'c', 'g')), ('c', 'q', ('a', 'c')), ('h', None, ('c', 'g'))), (2, 1),
+    ('p', 'q', 'r'), 2, ('p', 'r')), 3, 2, 3)
+MANY_AHEAD = (Machine(
+    (('b', 'p', ('b', 'f', 'h')), ('h', None, ('b',)), ('f', 'q', ('b', 'f'))), (2, 1), ('p', 'q'), 2, ('p',)), 2, 1, 4)

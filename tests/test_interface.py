@@ -39,6 +39,19 @@ LISTED = (
     ('holding', None, {
         'hold': ['machine', 'watch', 'a', 'b', 'most'], 'shows_posts': ['machine', 'watch', 'a', 'b', 'd', 'value'],
         'shows_book': ['machine', 'watch', 'a', 'b', 'd', 'value'], 'rule_of': ['machine', 'watch', 'posts']}),
+    ('sparing', None, {
+        'sparing': ['machine', 'watch', 'prices', 'a', 'b', 'd'],
+        'shows_sparing': ['machine', 'watch', 'prices', 'a', 'b', 'd', 'value']}),
+    ('keeper', 'Keeper', {
+        '__init__': ['self', 'rule'], 'see': ['self', 'marks'], 'swap': ['self', 'rule', 'number'], 'undo': ['self'],
+        'rule': None, 'number': None, 'turn': None, 'now': None, 'journal': None, 'sets': None, 'paid': None,
+        'touches': ['self', 'page'], 'age': ['self', 'page'], 'warmest': ['self'], 'slow': ['self'], 'trial': ['self'],
+        'tried': ['self', 'look'], '__eq__': ['self', 'other']}),
+    ('texts', None, {
+        'show_machine': ['machine'], 'show_watch': ['machine', 'watch'], 'show_journal': JOURNAL, 'show_rule': ['rule'],
+        'read_machine': ['text'], 'read_watch': ['machine', 'text'], 'read_journal': ['machine', 'watch', 'text'],
+        'read_rule': ['machine', 'watch', 'text']}),
+    ('desk', 'Desk', {'__init__': ['self', 'keeper'], 'keeper': None, 'say': ['self', 'line']}),
 )
 DEFAULTS = {'since': 0, 'until': None}
 

@@ -80,6 +80,14 @@ class TableTest(unittest.TestCase):
                 self.assertIs(shows_bound(rule, 9, 4, value), wanted)
         self.assertGreater(min(counted.values()), 30)
 
+    def test_numbers_of_no_state(self):
+        rows = MOST[5]
+        for number in (1, 2, 12, -1):
+            for height in (0, -50):
+                row = ((number, 'a', ('p',), ('q',)), height)
+                self.assertIs(shows_bound(STILL, 1, 1, with_table(MOST, rows + (row,))), False)
+                self.assertIs(shows_bound(STILL, 1, 1, with_table(MOST, (row,) + rows)), False)
+
     def test_the_beginning(self):
         rows = MOST[5]
         self.assertEqual(rows[0], (FIRST, 0))
@@ -183,6 +191,11 @@ class MostTest(unittest.TestCase):
         self.assertIs(shows_bound(SHORT_STILL, 1, 1, found[:1] + (True,) + found[2:]), False)
         self.assertIs(shows_bound(SHORT_STILL, 1, 1, found[:3] + (False,) + found[4:]), False)
 
+    def test_turns_that_the_run_has_not(self):
+        for turn in (1, 2, 3, -1, -2):
+            for sets in ((), (('p',),), (('p',), ('p',))):
+                self.assertIs(shows_bound(STILL, 1, 1, MOST[:2] + (('a', 'b'), turn, sets) + MOST[5:]), False)
+
     def test_forms(self):
         for value in (
                 MOST[:5], MOST + (0,), list(MOST), MOST[1:], ('grows',) + MOST[1:], ('grows',) + MOST[1:5], ('Most',) + MOST[1:],
@@ -273,7 +286,11 @@ def rules_of_all_rates():
             yield rule
 
 
-RATED = list(rules_of_all_rates())
+# Of several rings: what grows for 7 / 1 does not for 8 / 1.
+SEVERAL = Machine(
+    (('h', 'q', ('b', 'g')), ('b', 'p', ('a', 'g', 'h')), ('g', None, ('a', 'g')), ('a', 'q', ('a', 'b', 'g'))), (2, 1),
+    ('p', 'q'), 3, ('q',))
+RATED = list(rules_of_all_rates()) + [chasing(SEVERAL)]
 
 
 class AnyValueTest(unittest.TestCase):
@@ -321,6 +338,14 @@ class RateTest(unittest.TestCase):
         self.assertIn(None, told)
         self.assertIn((1, 9), told)
         self.assertGreater(len(told), 5)
+
+    def test_the_next_lesser_fraction_and_no_other_one(self):
+        rule = chasing(SEVERAL)
+        a, b, told, lower = rate(rule)
+        self.assertEqual((a, b), (9, 1))
+        self.assertIs(shows_rate(rule, (a, b, told, bound(rule, 8, 1))), True)
+        self.assertIs(shows_rate(rule, (a, b, told, bound(rule, 7, 1))), False)
+        self.assertIs(shows_bound(rule, 7, 1, bound(rule, 7, 1)), True)
 
     def test_none_alone_if_it_is_told(self):
         for rule in RATED:
