@@ -3,7 +3,7 @@
 from seldomseen.bounds import bound
 from seldomseen.common import is_name
 from seldomseen.errors import BadLine
-from seldomseen.texts import is_number, line_of, show_journal, told_marks, words_of
+from seldomseen.texts import is_number, line_of, show_journal, told_marks
 
 
 def span_of(pair):
@@ -93,7 +93,7 @@ class Desk:
 
     def say(self, line):
         """The answer to a line."""
-        words = words_of(line) if isinstance(line, str) else []
+        words = line.split(" ") if isinstance(line, str) else []
         if len(words) == 1 and words[0] in WORDS:
             answer = WORDS[words[0]]
             return answer(self._keeper)

@@ -16,14 +16,6 @@ NONE = "-"
 MARKS = {"+": True, "-": False}
 
 
-def words_of(line):
-    """The words of a line, no words if two blanks stand together or one at an end."""
-    words = line.split(" ")
-    if "" in words:
-        return []
-    return words
-
-
 def is_number(word):
     """Whether a word is a number by its form."""
     digits = word[1:] if word.startswith("-") else word
@@ -129,7 +121,8 @@ def told_by(text, sorts):
     for told_line, several in sorts:
         told = []
         while at < len(lines) and (several or len(told) == 0):
-            value = told_line(words_of(lines[at]))
+            # Blanks that are too many make empty words, which no line has.
+            value = told_line(lines[at].split(" "))
             if value is None:
                 break
             told.append(value)

@@ -26,17 +26,17 @@ class Meetings:
 
     def peak_at(self, pair):
         """(gain, names) of the highest tick in the turn, None if there is none."""
-        own, beside = self._sets(pair)
+        own, beside = self._own_sets(pair)
         place = self._one.states[pair[0]][0]
         return peak_within(self._one.machine, self._weights, place, pair[2], own, beside)
 
     def turns_from(self, pair):
         """(names, pair, gain) of the whole turns."""
         machine = self._one.machine
-        own, beside = self._sets(pair)
+        own, beside = self._own_sets(pair)
         found = []
         for names, after in pairs_behind(self._one, self._other, pair):
-            next_own, next_beside = self._sets(after)
+            next_own, next_beside = self._own_sets(after)
             moved = gain_behind(machine, self._weights, (own, next_own), (beside, next_beside))
             found.append((names, after, gain_within(machine, self._weights, names, own, beside) + moved))
         return found
@@ -45,7 +45,7 @@ class Meetings:
         """Whether a value has the form of what alike tells."""
         return is_pair(self._one, self._other, value)
 
-    def _sets(self, pair):
+    def _own_sets(self, pair):
         return (self._one.states[pair[0]][1], self._other.states[pair[1]][1])
 
 

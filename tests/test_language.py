@@ -4,6 +4,8 @@ import ast
 import pathlib
 import unittest
 
+from test_interface import LISTED
+
 FOLDER = pathlib.Path(__file__).resolve().parent.parent / 'seldomseen'
 FILES = sorted(FOLDER.glob('*.py'))
 
@@ -142,6 +144,54 @@ class LanguageTest(unittest.TestCase):
         for place, node in nodes_of(ast.Attribute):
             if isinstance(node.ctx, ast.Store):
                 self.assertNotIn(node.attr, told, place)
+
+    def test_no_name_of_an_import_or_a_class_is_given_to_another_thing(self):
+        for path in FILES:
+            tree = ast.parse(path.read_text())
+            known = {name.name for node in tree.body if isinstance(node, ast.ImportFrom) for name in node.names}
+            known |= {node.name for node in tree.body if isinstance(node, ast.ClassDef)}
+            for function in [node for node in ast.walk(tree) if isinstance(node, ast.FunctionDef)]:
+                for node in ast.walk(function):
+                    if isinstance(node, ast.arg):
+                        self.assertNotIn(node.arg, known, f'{path.name}:{node.lineno}')
+                    elif isinstance(node, ast.Name) and isinstance(node.ctx, ast.Store):
+                        self.assertNotIn(node.id, known, f'{path.name}:{node.lineno}')
+            bound = [name.name for node in tree.body if isinstance(node, ast.ImportFrom) for name in node.names]
+            bound += [node.name for node in tree.body if isinstance(node, (ast.FunctionDef, ast.ClassDef))]
+            bound += [node.targets[0].id for node in tree.body if isinstance(node, ast.Assign)]
+            self.assertEqual(sorted(bound), sorted(set(bound)), path.name)
+
+    def test_all_that_is_imported_is_used(self):
+        for path in FILES:
+            tree = ast.parse(path.read_text())
+            used = {node.id for node in ast.walk(tree) if isinstance(node, ast.Name)}
+            for node in tree.body:
+                if isinstance(node, ast.ImportFrom):
+                    for name in node.names:
+                        self.assertIn(name.name, used, path.name)
+
+    def test_no_function_is_left_unused(self):
+        read = {node.id for _, node in nodes_of(ast.Name)} | {node.attr for _, node in nodes_of(ast.Attribute)}
+        listed = {name for _, kind, names in LISTED for name in names} | {kind for _, kind, _ in LISTED}
+        for place, node in nodes_of((ast.FunctionDef, ast.ClassDef)):
+            if node.name not in listed | set(DOUBLE) and not place.startswith('errors.py'):
+                self.assertIn(node.name, read, place)
+
+    def test_stars_over_names_alone(self):
+        for place, node in nodes_of(ast.Starred):
+            self.assertIsInstance(node.value, ast.Name, place)
+
+    def test_words_that_stand_nowhere(self):
+        for place, node in nodes_of(ast.Constant):
+            if isinstance(node.value, str):
+                for word in ('dataclass', 'overload', 'contextmanager', '_wall'):
+                    self.assertNotIn(word, node.value, place)
+
+    def test_methods_and_attributes_have_different_names(self):
+        methods = {node.name for _, holder in nodes_of(ast.ClassDef) for node in holder.body
+                   if isinstance(node, ast.FunctionDef)}
+        stored = {node.attr for _, node in nodes_of(ast.Attribute) if isinstance(node.ctx, ast.Store)}
+        self.assertEqual(methods & stored, set())
 
 
 if __name__ == '__main__':

@@ -295,7 +295,7 @@ class BadTextTest(unittest.TestCase):
                      'step a1 p >', 'step a None >'),
             'clock': ('clock', 'clock ', 'clock +1', 'clock 01', 'clock 00', 'clock -0', 'clock --1', 'clock 1.0', 'clock a', 'clock 1  2',
                       'clock 1 2 ', ' clock 1', 'clock -', 'clock 1234567890123456789', 'clock -1234567890123456789', 'clock 1,2',
-                      'clock -01', 'Clock 1', 'clock 1e1', 'clock 0x1', 'clock 1_0', 'clock 1 -'),
+                      'clock -01', 'Clock 1', 'clock 1e1', 'clock 0x1', 'clock 1_0', 'clock 1 -', 'clock 1x', 'clock x1', 'clock 1a'),
             'pages': ('pages', 'pages ', 'pages -', 'pages 1', 'pages P', 'pages p  q', 'pages abcdefghi', 'page p', 'pages p,q'),
             'move': ('move', 'move ', 'move 1 2', 'move p', 'move +1', 'move 01', 'move -0', 'move 1234567890123456789', 'moves 1', 'move -'),
             'first': ('first', 'first -', 'first 1', 'first P', 'first p ', 'firsts p'),
