@@ -93,7 +93,14 @@ class BoundTest(unittest.TestCase):
                     longer = run[:at] + run[at:end] * times + run[end:]
                     self.assertTrue(rule.machine.is_run(longer))
                     around = sets + sets[1:] * (times - 1)
-                    self.assertTrue(bound_ring_holds(rule, 1, 9, longer, first, first + (last - first) * times, around))
+                    end_of_all = first + (last - first) * times
+                    self.assertTrue(bound_ring_holds(rule, 1, 9, longer, first, end_of_all, around))
+                    self.assertIs(shows_bound(rule, 1, 9, ('grows', longer, first, end_of_all, around)), True)
+                    if times > 1:
+                        # Any round of several.
+                        for at_turn in (first, end_of_all - (last - first)):
+                            value = ('grows', longer, at_turn, at_turn + last - first, sets)
+                            self.assertIs(shows_bound(rule, 1, 9, value), True)
 
     def test_the_example(self):
         rule = Rule(EXAMPLE, ((),), ((0, ('p',), (0,)),))

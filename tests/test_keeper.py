@@ -96,6 +96,7 @@ def compare_answers(case, keeper, book):
         return
     for page in machine.pages:
         case.assertEqual(keeper.touches(page), touches(machine, watch, journal, page))
+        case.assertEqual(keeper.touches(page=page), keeper.touches(page))
         case.assertEqual(keeper.age(page=page), age(machine, watch, journal, page))
     case.assertEqual(keeper.slow(), slow(machine, watch, journal, book.sets[:-1]))
     if total_ticks(machine, len(journal)) <= 8:
