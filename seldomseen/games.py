@@ -62,7 +62,7 @@ def lost_cases(game, d):
     None stands for marks where a case does so at once. Those behind the marks are in the dict ahead of the case.
     """
     lost = {number: None for number, peak in enumerate(game.peaks) if peak is not None and peak[0] > d}
-    many = -1
+    many = 0
     while many < len(lost):
         many = len(lost)
         for number, turns in enumerate(game.turns):

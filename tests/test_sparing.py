@@ -229,7 +229,7 @@ class ShowsSparingTest(unittest.TestCase):
             if found[0] != 'watch':
                 continue
             ordered = in_order(machine, watch, prices)
-            for other in ordered[ordered.index(found[2]) + 1:]:
+            for other in ordered[ordered.index(found[2]) + 1:][:6]:
                 try:
                     told = hold(machine, other, a, b, d)
                 except TooMany:
