@@ -178,15 +178,25 @@ def bound_holds(rule, a, b, value):
     return False
 
 
+def least_paid(machine, parts, chosen):
+    """The least that any sets pay in these turns that begin with this one, turn by turn."""
+    ahead = {chosen: slow_in(machine, parts[0], chosen)}
+    for part in parts[1:]:
+        ahead = {after: min(paid + moved(machine, other, after) for other, paid in ahead.items())
+                 + slow_in(machine, part, after) for after in machine.sets}
+    return min(ahead.values())
+
+
 def pays_least(rule, a, b, run, turn, sets):
     """Whether no sets that begin with the rule's own one pay less in a stretch."""
-    machine = rule.machine
-    parts = turns_by_tick(machine, run)[turn:]
-    least, ahead = None, {sets[0]: slow_in(machine, parts[0], sets[0])}
-    for part in parts[1:]:
-        ahead = {chosen: min(paid + moved(machine, other, chosen) for other, paid in ahead.items())
-                 + slow_in(machine, part, chosen) for chosen in machine.sets}
-    return paid_in(machine, parts, sets) == min(ahead.values())
+    parts = turns_by_tick(rule.machine, run)[turn:]
+    return paid_in(rule.machine, parts, sets) == least_paid(rule.machine, parts, sets[0])
+
+
+def excess_by_turns(rule, a, b, run, turn):
+    """The excess of a stretch, of runs that are too long for all rows of sets."""
+    parts, own = turns_by_tick(rule.machine, run)[turn:], own_sets(rule, run)[turn:]
+    return b * paid_in(rule.machine, parts, own) - a * least_paid(rule.machine, parts, own[0])
 
 
 def all_fractions():

@@ -9,7 +9,8 @@ from seldomseen.bounds import bound, rate, shows_bound, shows_rate
 from seldomseen.errors import BadWeight
 from seldomseen.machines import Machine
 from seldomseen.rules import Rule
-from stretches import bound_holds, bound_ring_holds, bound_table_holds, excess_of, greatest_of_short, pays_least
+from stretches import (
+    bound_holds, bound_ring_holds, bound_table_holds, excess_by_turns, excess_of, greatest_of_short, pays_least)
 from test_sizes import PAGES, big_machine
 
 PAIRS = ((1, 1), (2, 1), (1, 2), (9, 1), (1, 9), (9, 8), (3, 5), (5, 1))
@@ -101,6 +102,31 @@ class BoundTest(unittest.TestCase):
                         for at_turn in (first, end_of_all - (last - first)):
                             value = ('grows', longer, at_turn, at_turn + last - first, sets)
                             self.assertIs(shows_bound(rule, 1, 9, value), True)
+
+    def test_no_bound_holds_along_a_told_ring(self):
+        for rule in RULES[::3]:
+            found = bound(rule, 1, 2)
+            if found[0] == 'grows':
+                _, run, first, last, sets = found
+                parts = turns_by_tick(rule.machine, run)
+                at, end = sum(map(len, parts[:first])), sum(map(len, parts[:last]))
+                # Ahead of it the other sets pay for a turn at most, and for all that they bring in.
+                ahead = 3 + rule.machine.move * 3
+                for times in (20, 60):
+                    longer = run[:at] + run[at:end] * times
+                    self.assertGreaterEqual(excess_by_turns(rule, 1, 2, longer, first - 1), times - ahead)
+
+    def test_no_sampled_long_run_exceeds_it(self):
+        chance = random.Random(20)
+        for rule in RULES[::2]:
+            found = bound(rule, 5, 2)
+            if found[0] == 'most':
+                for _ in range(5):
+                    run = (rule.machine.names[0],)
+                    while len(run) < 40 and rule.machine.following(run[-1]):
+                        run += (chance.choice(rule.machine.following(run[-1])),)
+                    for turn in range(0, len(turns_by_tick(rule.machine, run)), 4):
+                        self.assertLessEqual(excess_by_turns(rule, 5, 2, run, turn), found[1])
 
     def test_the_example(self):
         rule = Rule(EXAMPLE, ((),), ((0, ('p',), (0,)),))
