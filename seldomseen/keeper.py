@@ -14,7 +14,7 @@ class Keeper:
     """Follows a rule from the beginning on."""
 
     def __init__(self, rule):
-        # (rule, number, journal, sets, paid), and what was done with the state ahead of it.
+        # A state is (rule, number, journal, sets, paid). The past has each deed, with the state ahead of it.
         self._state = (rule, 0, (), (rule.machine.first,), 0)
         self._past = []
 
